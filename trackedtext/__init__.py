@@ -1,0 +1,1 @@
+"""Text with tracked changes."""
