@@ -152,6 +152,74 @@ class Model:
             piece[4] = []
         return [marked]
 
+    def call_9(self):
+        marked = self.marked()
+        self.row = [piece for piece in self.row if not piece[2]]
+        for piece in self.row:
+            piece[3] = []
+            piece[4] = []
+        return [marked]
+
+    def call_10(self, w):
+        if w == 0:
+            return self.view_of_all()
+        if w == 1:
+            return self.view_of([(piece, self.look(piece)) for piece in self.row if not piece[3]])
+        if w == 2:
+            return self.view_of([(piece, piece[1]) for piece in self.row if not piece[2]])
+        return [-2]
+
+    def view_of_all(self):
+        answer = [len(self.row)]
+        for sign, look, insertions, deletions, pending, tags in self.row:
+            answer += [sign] + look + [len(insertions)] + insertions + [len(deletions)] + deletions
+            answer += [len(pending)] + [number for entry in pending for number in entry] + [len(tags)] + tags
+        return answer
+
+    def view_of(self, text):
+        answer = [len(text)]
+        for piece, look in text:
+            answer += [piece[0]] + look + [len(piece[5])] + piece[5]
+        return answer
+
+    def call_11(self, c):
+        if c < 1 or c > len(self.changes):
+            return [-4]
+        inserted = sum(1 for piece in self.row if c in piece[2])
+        deleted = sum(1 for piece in self.row if c in piece[3])
+        pending = sum(1 for piece in self.row for entry in piece[4] if entry[0] == c)
+        return list(self.changes[c - 1]) + [inserted, deleted, pending]
+
+    def call_12(self):
+        return [len(self.shown()), len(self.row), len(self.originals()), len(self.changes)]
+
+    def originals(self):
+        return [piece for piece in self.row if not piece[2]]
+
+    def call_13(self, p):
+        shown = self.shown()
+        if p < 0 or p > len(shown) - 1:
+            return [-1]
+        before = self.row[:self.at(shown[p])]
+        return [len(before), sum(1 for piece in before if not piece[2])]
+
+    def call_14(self, w, i):
+        if w not in (0, 2):
+            return [-2]
+        counted = self.row if w == 0 else self.originals()
+        if i < 0 or i > len(counted) - 1:
+            return [-1]
+        return [sum(1 for piece in self.row[:self.at(counted[i])] if not piece[3])]
+
+    def call_15(self, i):
+        paragraphs = []
+        first = 0
+        for place, piece in enumerate(self.shown()):
+            if piece[0] == 10:
+                paragraphs.append([first, place + 1])
+                first = place + 1
+        return paragraphs[i] if 0 <= i < len(paragraphs) else [-1]
+
     def call_16(self):
         found = []
         before = None

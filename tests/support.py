@@ -45,6 +45,34 @@ def accept():
     return [8]
 
 
+def reject():
+    return [9]
+
+
+def view(w):
+    return [10, w]
+
+
+def change(c):
+    return [11, c]
+
+
+def size():
+    return [12]
+
+
+def where(p):
+    return [13, p]
+
+
+def from_of(w, i):
+    return [14, w, i]
+
+
+def paragraph(i):
+    return [15, i]
+
+
 def stretches():
     return [16]
 
@@ -65,8 +93,57 @@ def parted(given):
     return parts
 
 
+class Told:
+    """Takes an answer apart, number by number."""
+
+    def __init__(self, answer):
+        self.answer = answer
+        self.at = 0
+
+    def numbers(self, count):
+        self.at += count
+        assert self.at <= len(self.answer), "the answer is too short"
+        return self.answer[self.at - count:self.at]
+
+    def number(self):
+        return self.numbers(1)[0]
+
+    def counted(self, width=1):
+        """How many, then these; entries of several numbers as tuples."""
+        entries = [tuple(self.numbers(width)) for each in range(self.number())]
+        return [entry[0] for entry in entries] if width == 1 else entries
+
+    def done(self, value):
+        assert self.at == len(self.answer), "the answer is too long"
+        return value
+
+
+def told_pieces(answer):
+    """What view (0) answers, a piece as Played.row tells it."""
+    told = Told(answer)
+    return told.done([
+        (told.number(), tuple(told.numbers(4)), told.counted(), told.counted(), told.counted(3), told.counted())
+        for each in range(told.number())
+    ])
+
+
+def told_text(answer):
+    """What view (1) and view (2) answer: for each piece its sign, its look, its tags."""
+    told = Told(answer)
+    return told.done([(told.number(), tuple(told.numbers(4)), told.counted()) for each in range(told.number())])
+
+
+def told_stretches(answer):
+    """What stretches answers: where each begins, its length, insertions, deletions, pending looks."""
+    told = Told(answer)
+    return told.done([
+        (told.number(), told.number(), told.counted(), told.counted(), told.counted(3))
+        for each in range(told.number())
+    ])
+
+
 def tag_list(tags):
-    return [t for t in range(1000) if tags >> t & 1]
+    return [t for t in range(1000) if tags >> t & 1] if tags else []
 
 
 def last_value(piece, k):
@@ -88,6 +165,13 @@ class Played:
     @property
     def last(self):
         return self.answers[-1]
+
+    def ask(self, call):
+        """The answer to a call that must change nothing."""
+        before = self.whole()
+        answer = self.then(call).last
+        assert self.whole() == before, f"{call} changed something"
+        return answer
 
     def row(self):
         """Every piece: sign, own look, insertions, deletions, pending looks, tags."""

@@ -24,10 +24,26 @@ def some_signs(chance):
     return [chance.choice([10, 32, 97, 98, 126]) for number in range(chance.randrange(1, 6))]
 
 
+def every_question(model):
+    """Each call that only asks, with each of its edges and all that lies between them."""
+    n = len(model.shown())
+    calls = [[10, w] for w in range(-1, 4)]
+    calls += [[11, c] for c in range(len(model.changes) + 2)]
+    calls += [[12], [16]]
+    calls += [[13, p] for p in range(-1, n + 1)]
+    calls += [[14, 0, i] for i in range(-1, len(model.row) + 1)]
+    calls += [[14, 1, i] for i in (-1, 0, len(model.row))]
+    calls += [[14, 2, i] for i in range(-1, len(model.originals()) + 1)]
+    calls += [[15, i] for i in range(-1, n + 1)]
+    return calls
+
+
 def some_call(chance, n):
-    kind = chance.choice([0, 0, 1, 2, 3, 3, 3, 4, 4, 5, 5, 5, 6, 6, 6, 7, 7, 16] + [8] * (chance.random() < 0.1))
+    kind = chance.choice([0, 0, 1, 2, 3, 3, 3, 4, 4, 5, 5, 5, 6, 6, 6, 7, 7, 10, 11, 12, 13, 14, 15, 16])
     if chance.random() < 0.01:
-        count = (1, 1, 1, 0, 2, 4, 3, 4, 0)[kind] if kind < 9 else 0
+        kind = chance.choice([8, 9])
+    if chance.random() < 0.01:
+        count = (1, 1, 1, 0, 2, 4, 3, 4, 0, 0, 1, 1, 0, 1, 2, 1, 0)[kind]
         wrong = [chance.choice([-HUGE, HUGE, -1, 1000]) for number in range(count)]
         return [3, chance.choice([-HUGE, HUGE]), 1, 97] if kind == 3 else [kind] + wrong
     if kind == 0:
@@ -46,10 +62,22 @@ def some_call(chance, n):
     if kind in (4, 6):
         p, q = some_stretch(chance, n)
         return [kind, p, max(p + 1, min(q, n - 1))] + [some_place(chance, n)] * (kind == 6)
+    if kind == 10:
+        return [10, chance.randrange(3)]
+    if kind == 14:
+        return [14, chance.choice([0, 2]), chance.randrange(2 * n)]
+    if kind in (11, 13, 15):
+        return [kind, chance.randrange(n + 1)]
     return [kind]
 
 
 class ModelTest(unittest.TestCase):
+    def ask_everything(self, seed, played, model):
+        before = played.whole()
+        for call in every_question(model):
+            self.assertEqual(played.then(call).last, model_answer(model, call), (seed, call))
+        self.assertEqual(played.whole(), before, seed)
+
     def play(self, seed, length):
         chance = random.Random(seed)
         played = Played()
@@ -59,6 +87,9 @@ class ModelTest(unittest.TestCase):
             expected = model_answer(model, call)
             self.assertEqual(played.then(call).last, expected, (seed, number, call))
             self.assertEqual(played.row(), model.pieces(), (seed, number, call))
+            if number % 20 == 10:
+                self.ask_everything(seed, played, model)
+        self.ask_everything(seed, played, model)
         self.assertEqual(played.changes(), model.changes)
         self.assertEqual([tuple(model.look(piece)) for piece in model.shown()], played.looks_shown())
 

@@ -2,10 +2,12 @@
 
 from trackedtext.commands import cut, move, paint, put
 from trackedtext.document import Document
-from trackedtext.marks import stretches
+from trackedtext.marks import change, stretches
 from trackedtext.moment import set_author, set_time, set_tracking
-from trackedtext.settling import accept
+from trackedtext.places import from_of, paragraph, size, where
+from trackedtext.settling import accept, reject
 from trackedtext.tagging import tag
+from trackedtext.views import view
 
 AUTHOR = 0
 CLOCK = 1
@@ -16,10 +18,18 @@ PAINT = 5
 MOVE = 6
 TAG = 7
 ACCEPT = 8
+REJECT = 9
+VIEW = 10
+CHANGE = 11
+SIZE = 12
+WHERE = 13
+FROM_OF = 14
+PARAGRAPH = 15
 STRETCHES = 16
 
 # By the call's number, how many whole numbers stand behind it, a row left out.
-NUMBERS = {0: 1, 1: 1, 2: 1, 3: 1, 4: 2, 5: 4, 6: 3, 7: 4, 8: 0, 16: 0}
+NUMBERS = {0: 1, 1: 1, 2: 1, 3: 1, 4: 2, 5: 4, 6: 3, 7: 4, 8: 0,
+           9: 0, 10: 1, 11: 1, 12: 0, 13: 1, 14: 2, 15: 1, 16: 0}
 
 
 class UnknownCall(ValueError):
@@ -70,6 +80,24 @@ def answer_to(document, call, numbers, signs):
         return tag(document, numbers[0], numbers[1], numbers[2], numbers[3])
     if call == ACCEPT:
         return accept(document)
+    if call == REJECT:
+        return reject(document)
+    return answer_to_question(document, call, numbers)
+
+
+def answer_to_question(document, call, numbers):
+    if call == VIEW:
+        return view(document, numbers[0])
+    if call == CHANGE:
+        return change(document, numbers[0])
+    if call == SIZE:
+        return size(document)
+    if call == WHERE:
+        return where(document, numbers[0])
+    if call == FROM_OF:
+        return from_of(document, numbers[0], numbers[1])
+    if call == PARAGRAPH:
+        return paragraph(document, numbers[0])
     if call == STRETCHES:
         return stretches(document)
     raise UnknownCall(f"call {call} is not known here")

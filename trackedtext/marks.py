@@ -1,47 +1,33 @@
-"""The call stretches: where in the row which marks are."""
+"""The calls that tell of marks: stretches and change."""
 
-from trackedtext.piece import has_same_marks, is_marked
-from trackedtext.row import all_pieces
-
-
-class Stretch:
-    def __init__(self, begin, piece):
-        self.begin = begin
-        self.length = 1
-        self.piece = piece
+from trackedtext.piece import is_marked, listed_marks
+from trackedtext.row import all_runs
 
 
 def stretches(document):
-    found = marked_stretches(all_pieces(document.row))
-    answer = [len(found)]
-    for stretch in found:
-        answer.append(stretch.begin)
-        answer.append(stretch.length)
-        answer.extend(listed_marks(stretch.piece))
-    return answer
+    count = 0
+    told = []
+    begin = 0
+    for run in all_runs(document.row):
+        if is_marked(run.piece):
+            count += 1
+            told.extend([begin, run.length])
+            told.extend(listed_marks(run.piece))
+        begin += run.length
+    return [count] + told
 
 
-def marked_stretches(pieces):
-    found = []
-    # The stretch that the next piece may still belong to, if there is one.
-    current = None
-    for begin, piece in enumerate(pieces):
-        if not is_marked(piece):
-            current = None
-        elif current is not None and has_same_marks(current.piece, piece):
-            current.length += 1
-        else:
-            current = Stretch(begin, piece)
-            found.append(current)
-    return found
-
-
-def listed_marks(piece):
-    numbers = [len(piece.insertions)]
-    numbers.extend(piece.insertions)
-    numbers.append(len(piece.deletions))
-    numbers.extend(piece.deletions)
-    numbers.append(len(piece.pending))
-    for entry in piece.pending:
-        numbers.extend(entry)
-    return numbers
+def change(document, c):
+    if not 1 <= c <= len(document.changes):
+        return [-4]
+    inserted = 0
+    deleted = 0
+    pending = 0
+    for run in all_runs(document.row):
+        if c in run.piece.insertions:
+            inserted += run.length
+        if c in run.piece.deletions:
+            deleted += run.length
+        entries = [entry for entry in run.piece.pending if entry[0] == c]
+        pending += run.length * len(entries)
+    return list(document.changes[c - 1]) + [inserted, deleted, pending]

@@ -30,6 +30,14 @@ def is_marked(piece):
     return len(piece.insertions) + len(piece.deletions) + len(piece.pending) > 0
 
 
+def is_shown(piece):
+    return piece.deletions == ()
+
+
+def is_original(piece):
+    return piece.insertions == ()
+
+
 def has_same_marks(piece, other):
     return (piece.insertions == other.insertions and piece.deletions == other.deletions
             and piece.pending == other.pending)
@@ -62,3 +70,20 @@ def settle(piece):
     piece.look = piece.seen
     piece.insertions = ()
     piece.pending = ()
+
+
+def restore(piece):
+    piece.seen = piece.look
+    piece.deletions = ()
+    piece.pending = ()
+
+
+def listed_marks(piece):
+    numbers = [len(piece.insertions)]
+    numbers.extend(piece.insertions)
+    numbers.append(len(piece.deletions))
+    numbers.extend(piece.deletions)
+    numbers.append(len(piece.pending))
+    for entry in piece.pending:
+        numbers.extend(entry)
+    return numbers

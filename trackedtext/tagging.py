@@ -9,8 +9,9 @@ def tag(document, p, q, t, on):
     if not 1 <= t <= 999 or on not in (0, 1):
         return [-2]
     # What is hidden before place p stands ahead of the first tagged piece.
-    for pieces in document.row.hidden[p + 1:q]:
-        tag_pieces(pieces, t, on)
+    for hidden in document.row.hidden[p + 1:q]:
+        for neighbours in hidden:
+            tag_pieces(neighbours, t, on)
     return [tag_pieces(document.row.shown[p:q], t, on)]
 
 
